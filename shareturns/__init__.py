@@ -1,0 +1,1 @@
+"""The last turns of a game of shares."""
