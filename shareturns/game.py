@@ -22,6 +22,20 @@ class Game:
         self.companies = companies
 
 
+# The game at the beginning, before anything is told.
+def first_game():
+    return Game((0, 0), 0, 0, ())
+
+
+def at_place(company, place):
+    return Company(place, company.pay, company.shares, company.pool, company.prices)
+
+
+# The same companies, but for this one in the place of the one with its number.
+def with_company(companies, number, company):
+    return companies[:number] + (company,) + companies[number + 1:]
+
+
 def price_of(company):
     return company.prices[company.place]
 

@@ -1,6 +1,6 @@
 """Which orders may be given, and the game behind each of them."""
 
-from shareturns.game import Company, Game, price_of
+from shareturns.game import Company, Game, at_place, price_of, with_company
 
 PASS = 0
 
@@ -46,8 +46,7 @@ def game_behind(game, order):
         deed = order - DEEDS * number
         company = companies[number]
         money = money_behind(money, company, game.turn, deed)
-        changed = company_behind(company, game.turn, deed)
-        companies = companies[:number] + (changed,) + companies[number + 1:]
+        companies = with_company(companies, number, company_behind(company, game.turn, deed))
     return Game(money, 1 - game.turn, game.left - 1, companies)
 
 
@@ -83,5 +82,4 @@ def traded(company, player, bought):
 
 
 def moved(company, step):
-    place = min(max(company.place + step, 0), len(company.prices) - 1)
-    return Company(place, company.pay, company.shares, company.pool, company.prices)
+    return at_place(company, min(max(company.place + step, 0), len(company.prices) - 1))

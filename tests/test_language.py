@@ -103,6 +103,11 @@ class LanguageTest(unittest.TestCase):
                 if isinstance(node, ast.Attribute):
                     self.assertIn(node.attr, own | set(METHODS), name)
 
+    def test_no_local_is_called_like_a_class_or_an_import(self):
+        for name, tree in trees():
+            taken = imported(tree) | {node.name for node in tree.body if isinstance(node, ast.ClassDef)}
+            self.assertEqual(taken & locals_of(tree), set(), name)
+
     def test_no_two_files_draw_from_one_another(self):
         draws = {name[:-3]: drawn_from(tree) for name, tree in trees()}
         done = set()
@@ -114,6 +119,11 @@ class LanguageTest(unittest.TestCase):
 
 def imported(tree):
     return {item.name for node in ast.walk(tree) if isinstance(node, ast.ImportFrom) for item in node.names}
+
+
+def locals_of(tree):
+    found = {node.arg for node in ast.walk(tree) if isinstance(node, ast.arg)}
+    return found | {node.id for node in ast.walk(tree) if isinstance(node, ast.Name) and isinstance(node.ctx, ast.Store)}
 
 
 def drawn_from(tree):

@@ -1,10 +1,16 @@
 """The same calls reckoned a second time, word by word and with nothing remembered, on made-up games."""
 
-import copy
 import random
 import unittest
 
-from tests.helper import best, company, play, players, told, value
+from tests.helper import GOALS, best, company, duel, greatest, line, play, players, tempo, told, value, values
+
+
+# By the calls' numbers; a value below 0 stands alone too, so value and tempo are left out.
+REFUSALS = {
+    0: {-2, -4}, 1: {-2}, 2: set(), 3: set(), 4: {-5, -3}, 5: {-6}, 6: set(), 8: {-2, -5, -7}, 9: {-2, -7},
+    10: {-2, -7}, 11: {-2, -7, -3}, 12: set(), 13: {-2}, 14: set(), 16: {-1, -2},
+}
 
 
 class Plain:
@@ -57,9 +63,23 @@ class Plain:
         self.turn = 1 - self.turn
         self.left -= 1
 
+    def copied(self):
+        game = Plain()
+        game.money = list(self.money)
+        game.turn = self.turn
+        game.left = self.left
+        for c in self.companies:
+            game.companies.append({**c, "shares": list(c["shares"])})
+        return game
+
     def behind(self, order):
-        game = copy.deepcopy(self)
+        game = self.copied()
         game.give(order)
+        return game
+
+    def at_other_turn(self):
+        game = self.copied()
+        game.turn = 1 - game.turn
         return game
 
     def value(self, goal):
@@ -72,11 +92,193 @@ class Plain:
         wanted = self.value(goal)
         return next(order for order in self.orders() if self.behind(order).value(goal) == wanted)
 
+    def values(self, goal):
+        return [number for order in self.orders() for number in (order, self.behind(order).value(goal))]
+
+    def line(self, goal):
+        if self.left == 0:
+            return [], self
+        order = self.best(goal)
+        rest, end = self.behind(order).line(goal)
+        return [order] + rest, end
+
+    def duel(self, player, row):
+        """The orders and the game at the end; the row may not fit."""
+        if self.left == 0:
+            return None if row else ([], self)
+        if self.turn == player:
+            order = self.best(player)
+        elif not row or not self.may(row[0]):
+            return None
+        else:
+            order, row = row[0], row[1:]
+        behind = self.behind(order).duel(player, row)
+        return behind and ([order] + behind[0], behind[1])
+
     def shown(self):
         found = self.money + [self.turn, self.left, len(self.companies)]
         for c in self.companies:
             found = found + [c["place"], c["pay"]] + c["shares"] + [c["pool"], len(c["prices"])] + c["prices"]
         return found
+
+
+class PlainDesk:
+    """A call is taken apart by its number, in the order of the promises."""
+
+    def __init__(self):
+        self.game = Plain()
+        self.past = []
+
+    def answer(self, call):
+        number, rest = call[0], call[1:]
+        names = (
+            "company players show orders play undo worth value best values line duel swap scale clear tempo price"
+        ).split()
+        found = getattr(self, names[number])(*rest)
+        if number in (0, 1, 12, 13, 14, 16) and found[0] >= 0:
+            self.past = []
+        return found
+
+    def too_many(self):
+        return (4 * len(self.game.companies) + 1) ** self.game.left > 100000
+
+    def refusal(self, fits):
+        return [-2] if not fits else [-7] if self.too_many() else None
+
+    def company(self, place, pay, a, b, pool, count, *prices):
+        if not 1 <= count <= 8 or min(prices) < 1 or max(prices) > 1000000 or sorted(set(prices)) != list(prices):
+            return [-2]
+        if place not in range(count) or pay not in range(1000001) or not {a, b, pool} <= set(range(10)):
+            return [-2]
+        if len(self.game.companies) == 3:
+            return [-4]
+        c = {"place": place, "pay": pay, "prices": list(prices), "shares": [a, b], "pool": pool}
+        self.game = self.game.copied()
+        self.game.companies.append(c)
+        return [len(self.game.companies) - 1]
+
+    def players(self, money0, money1, turn, left):
+        if min(money0, money1) < 0 or max(money0, money1) > 1000000 or turn not in (0, 1) or left not in range(9):
+            return [-2]
+        self.game = self.game.copied()
+        self.game.money, self.game.turn, self.game.left = [money0, money1], turn, left
+        return [0]
+
+    def show(self):
+        return self.game.shown()
+
+    def orders(self):
+        return [len(self.game.orders())] + self.game.orders()
+
+    def play(self, order):
+        if self.game.left == 0:
+            return [-5]
+        if not self.game.may(order):
+            return [-3]
+        self.past.append(self.game)
+        self.game = self.game.behind(order)
+        return self.worth()
+
+    def undo(self):
+        if not self.past:
+            return [-6]
+        self.game = self.past.pop()
+        return [0]
+
+    def worth(self):
+        return [self.game.worth(0), self.game.worth(1)]
+
+    def value(self, goal):
+        return self.refusal(goal in (0, 1, 2)) or [self.game.value(goal)]
+
+    def best(self, goal):
+        if goal in (0, 1, 2) and self.game.left == 0:
+            return [-5]
+        return self.refusal(goal in (0, 1, 2)) or [self.game.best(goal), self.game.value(goal)]
+
+    def values(self, goal):
+        return self.refusal(goal in (0, 1, 2)) or [len(self.game.orders())] + self.game.values(goal)
+
+    def line(self, goal):
+        return self.refusal(goal in (0, 1, 2)) or line_answer(*self.game.line(goal))
+
+    def duel(self, player, count, *row):
+        refusal = self.refusal(player in (0, 1))
+        if refusal:
+            return refusal
+        found = self.game.duel(player, row)
+        return line_answer(*found) if found else [-3]
+
+    def swap(self):
+        self.game = self.game.at_other_turn()
+        self.game.money.reverse()
+        for c in self.game.companies:
+            c["shares"].reverse()
+        return [0]
+
+    def scale(self, k):
+        amounts = list(self.game.money)
+        for c in self.game.companies:
+            amounts += [c["pay"]] + c["prices"]
+        if not 1 <= k <= 1000000 or max(amounts) * k > 1000000:
+            return [-2]
+        self.game = self.game.copied()
+        self.game.money = [k * money for money in self.game.money]
+        for c in self.game.companies:
+            c["pay"] *= k
+            c["prices"] = [k * price for price in c["prices"]]
+        return [0]
+
+    def clear(self):
+        self.game = Plain()
+        return [0]
+
+    def tempo(self, goal):
+        return self.refusal(goal in (0, 1, 2)) or [self.game.at_other_turn().value(goal)]
+
+    def price(self, number, place):
+        if number not in range(len(self.game.companies)):
+            return [-1]
+        if place not in range(len(self.game.companies[number]["prices"])):
+            return [-2]
+        self.game = self.game.copied()
+        self.game.companies[number]["place"] = place
+        return [0]
+
+
+def line_answer(orders, end):
+    return [len(orders)] + orders + [end.worth(0), end.worth(1)]
+
+
+def made_up_call(chance, desk):
+    """Any of the 17 calls, for the most part one that is not refused."""
+    number = chance.choice([0, 1, 1, 1, 2, 3, 4, 4, 4, 4, 4, 5, 6, 7, 8, 9, 10, 11, 11, 12, 13, 15, 16, 16])
+    if chance.random() < 0.02:
+        number = 14
+    some = chance.choice([-1, 0, 0, 0, 1, 1, 1, 2, 2, 2, 3])
+    if number == 0:
+        prices = chance.sample(range(0, 60), chance.choice([0, 1, 2, 3, 4, 8, 9]))
+        prices = sorted(prices) if chance.random() < 0.9 else prices
+        held = [-1, 0, 1, 1, 2, 2, 3, 9, 10] if chance.random() < 0.2 else [0, 1, 2]
+        shares = [chance.choice(held) for k in range(3)]
+        return company(some if chance.random() < 0.3 else 0, chance.randint(-1, 12), *shares, prices)
+    if number == 1:
+        # More turns than these take long without anything remembered, but for those that are refused.
+        left = chance.choice([0, 1, 2, 2, 8] if len(desk.game.companies) > 1 else [1, 2, 3, 8, 9])
+        return players(chance.randint(-1, 90), chance.randint(-1, 90), chance.choice([0, 0, 1, 1, 2]), left)
+    if number == 4:
+        return play(chance.choice(desk.game.orders() + [chance.randint(-2, 13)]))
+    if number in (7, 8, 9, 10, 15):
+        return [number, some]
+    if number == 11:
+        turns = (desk.game.left + chance.choice([-1, 0, 1, 1, 2])) // 2
+        row = [chance.choice([0, 0, 1, 2, 3, 5, 6]) for k in range(turns)]
+        return duel(chance.choice([-1, 0, 0, 0, 1, 1, 1, 2]), row)
+    if number == 13:
+        return [13, chance.choice([0, 1, 1, 2, 2, 3, 1000])]
+    if number == 16:
+        return [16, some, chance.choice([-1, 0, 0, 1, 1, 2, 3, 8])]
+    return [number]
 
 
 def made_up(chance, most_companies, turns):
@@ -148,3 +350,33 @@ class SecondReckoningTest(unittest.TestCase):
     def test_values_of_up_to_three_companies(self):
         self.check_values(3, 60, 3, 2)
         self.check_values(4, 8, 3, 3)
+
+    def test_all_17_calls_mixed(self):
+        chance = random.Random(5)
+        refused = set()
+        answered = set()
+        for count in [1, 2, 5, 399, 400] + [60] * 40:
+            desk = PlainDesk()
+            calls = []
+            expected = []
+            for step in range(count):
+                calls.append(made_up_call(chance, desk))
+                expected.append(desk.answer(calls[-1]))
+                if len(expected[-1]) == 1 and expected[-1][0] < 0:
+                    refused.add((calls[-1][0], expected[-1][0]))
+                else:
+                    answered.add(calls[-1][0])
+            self.assertEqual(told(*calls), expected)
+        # All that can be answered and refused came up.
+        self.assertEqual(answered, set(range(17)))
+        for call, numbers in REFUSALS.items():
+            self.assertEqual({number for refused_call, number in refused if refused_call == call}, numbers)
+
+    def test_the_greatest_games(self):
+        for calls in greatest(0) + greatest(1):
+            desk = PlainDesk()
+            for call in calls:
+                desk.answer(call)
+            row = [0] * ((desk.game.left + 1) // 2)
+            asked = [values(goal) for goal in GOALS] + [line(2), tempo(0), duel(0, row), duel(1, row)]
+            self.assertEqual(told(*calls, *asked)[len(calls):], [desk.answer(call) for call in asked])

@@ -2,16 +2,11 @@
 
 import unittest
 
-from tests.helper import COMPANY, SHOW, UNDO, best, company, game, last, play, players, told
+from tests.helper import COMPANY, FULL, MOST_TURNS, SHOW, UNDO, WRONG_GOALS
+from tests.helper import best, company, game, last, play, players, told
 
-WRONG_GOALS = (-1, 3, 4, -2147483648, 2147483647)
-
-# Player 0 presides over the first, so that every order may be given in turn.
-FULL = [company(1, 5, 3, 1, 2, [10, 20, 40]), company(0, 3, 1, 2, 3, [5, 6]), company(1, 0, 2, 2, 1, [7, 9])]
 # Nothing but to pass: quick, however many turns are left.
 EMPTY = company(0, 5, 0, 0, 0, [10])
-
-MOST_TURNS = {1: 7, 2: 5, 3: 4}
 
 
 def values(*calls):
