@@ -179,6 +179,12 @@ class TempoTest(unittest.TestCase):
                 exchanged = [found[1], found[0], [-found[2][0]]]
                 self.assertEqual(exchanged, by_goal(tempo, *calls))
 
+    def test_against_a_game_told_the_other_way_round_and_swapped(self):
+        for turn in (0, 1):
+            for left in range(8):
+                exchanged = [company(1, 5, 1, 2, 1, [10, 20, 40]), players(20, 30, turn, left), SWAP]
+                self.assertEqual(by_goal(tempo, *game(turn, left)), by_goal(value, *exchanged))
+
     def test_against_value_once_it_was_asked(self):
         found = told(*game(0, 2), value(0), tempo(0), value(0), players(30, 20, 1, 2), tempo(0), value(0))
         self.assertEqual([found[2], found[4], found[6]], [[80], [80], [80]])
